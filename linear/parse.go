@@ -7,8 +7,8 @@ import (
 	"framewise/api"
 )
 
-// source is what is still to be parsed, with the sum of the items so far, and the sign of the next one.
-type source struct {
+// reader has what is still to be parsed, the sum of the items so far, and the sign of the next one.
+type reader struct {
 	rest string
 	sign int
 	sum  *sum
@@ -16,7 +16,7 @@ type source struct {
 
 // Parse returns the expression for which a source stands.
 func Parse(s string) (api.Linear, api.Errno) {
-	p := source{rest: s, sum: newSum(0)}
+	p := reader{rest: s, sum: newSum(0)}
 	p.spaces()
 	for first := true; first || p.rest != ""; first = false {
 		if !p.signed(first) || !p.item() {
@@ -26,10 +26,10 @@ func Parse(s string) (api.Linear, api.Errno) {
 	return p.sum.linear()
 }
 
-func (p *source) spaces() { p.rest = strings.TrimLeft(p.rest, " ") }
+func (p *reader) spaces() { p.rest = strings.TrimLeft(p.rest, " ") }
 
 // signed reads a sign, which may be left out if it is the first one.
-func (p *source) signed(first bool) bool {
+func (p *reader) signed(first bool) bool {
 	switch {
 	case strings.HasPrefix(p.rest, "-"):
 		p.sign = -1
@@ -45,7 +45,7 @@ func (p *source) signed(first bool) bool {
 }
 
 // item reads an item of one of the kinds.
-func (p *source) item() bool {
+func (p *reader) item() bool {
 	for _, kind := range []func() bool{p.numbered, p.alone} {
 		if kind() {
 			p.spaces()
@@ -56,7 +56,7 @@ func (p *source) item() bool {
 }
 
 // numbered reads an item that begins with a number.
-func (p *source) numbered() bool {
+func (p *reader) numbered() bool {
 	end := span(p.rest, 0, isDigit)
 	if end == 0 || end > maxSourceDigits || end > 1 && p.rest[0] == '0' {
 		return false
@@ -83,13 +83,13 @@ func (p *source) numbered() bool {
 }
 
 // alone reads a variable without a number.
-func (p *source) alone() bool {
+func (p *reader) alone() bool {
 	variable, ok := p.variable()
 	p.sum.add(Var(variable), p.sign)
 	return ok
 }
 
-func (p *source) variable() (string, bool) {
+func (p *reader) variable() (string, bool) {
 	end := span(p.rest, 0, isNameByte)
 	if strings.HasPrefix(p.rest, "_") {
 		end = span(p.rest, 1, isNameByte)
