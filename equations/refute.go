@@ -8,22 +8,22 @@ import (
 
 // refute solves a system without a solution again, and returns a refutation; the zero one if its numbers become too great.
 func refute(l []api.Linear, next int) Refutation {
-	s := newSolver(l, next, true)
-	if s.run() != api.ErrNone {
+	s := NewSystem(l, len(l), next, true)
+	if s.Run() != api.ErrNone {
 		return Refutation{}
 	}
-	q := s.list[s.at]
-	if q.origins == nil {
+	q := s.Rows[s.At]
+	if q.Origins == nil {
 		return Refutation{}
 	}
 	// The sum of the origins is den times what is left, whose coefficients are multiples of the content, but not the constant.
 	r := Refutation{Mults: make([]int, len(l))}
-	mod, e := intmath.Mul(q.den, linear.Content(q.left))
+	mod, e := intmath.Mul(q.Den, linear.Content(q.Left))
 	if e != api.OK {
 		return Refutation{}
 	}
 	parts := []int{mod}
-	for i, m := range q.origins {
+	for i, m := range q.Origins {
 		if mod > 0 {
 			m, _ = intmath.Mod(m, mod)
 		}
@@ -44,47 +44,40 @@ func refute(l []api.Linear, next int) Refutation {
 	return r
 }
 
-// dividedBy keeps the origins of an equation that was divided by a number.
-func (q *equation) dividedBy(g int) {
-	if q.origins != nil {
-		q.comesFrom(q.origins, q.den*g)
-	}
-}
-
 // subtract keeps the origins of an equation from which another one was subtracted k times.
-func (q *equation) subtract(other equation, k int) {
-	den, e := intmath.Lcm(q.den, other.den)
-	if q.origins == nil || other.origins == nil || e != api.OK || den > MaxMult {
-		q.origins = nil
+func (q *Row) subtract(other Row, k int) {
+	den, e := intmath.Lcm(q.Den, other.Den)
+	if q.Origins == nil || other.Origins == nil || e != api.OK || den > MaxMult {
+		q.Origins = nil
 		return
 	}
 	sum := map[int]int{}
-	add := func(from equation, k int) {
-		for i, m := range from.origins {
-			n, f := intmath.Dot([]int{sum[i], m}, []int{1, den / from.den * k})
+	add := func(from Row, k int) {
+		for i, m := range from.Origins {
+			n, f := intmath.Dot([]int{sum[i], m}, []int{1, den / from.Den * k})
 			sum[i] = n
 			e = max(e, f)
 		}
 	}
 	add(*q, 1)
 	add(other, -k)
-	if q.origins = nil; e == api.OK {
+	if q.Origins = nil; e == api.OK {
 		q.comesFrom(sum, den)
 	}
 }
 
 // comesFrom sets the origins of an equation, divided by what they have in common. They are lost if a number is too great.
-func (q *equation) comesFrom(origins map[int]int, den int) {
+func (q *Row) comesFrom(origins map[int]int, den int) {
 	g := den
 	for _, m := range origins {
 		g, _ = intmath.Gcd(g, m)
 	}
-	q.origins, q.den = nil, den/g
+	q.Origins, q.Den = nil, den/g
 	least := map[int]int{}
 	for i, m := range origins {
-		if least[i] = m / g; max(m/g, -m/g, q.den) > MaxMult {
+		if least[i] = m / g; max(m/g, -m/g, q.Den) > MaxMult {
 			return
 		}
 	}
-	q.origins = least
+	q.Origins = least
 }
