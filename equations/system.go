@@ -5,6 +5,7 @@ import (
 	"strings"
 
 	"framewise/api"
+	"framewise/clone"
 	"framewise/fresh"
 	"framewise/intmath"
 	"framewise/linear"
@@ -70,7 +71,7 @@ func (s *System) binds(from int) []api.Bind {
 	var l []api.Bind
 	for _, b := range s.Bound {
 		if fresh.Number(b.Var) < from {
-			l = append(l, api.Bind{Kind: api.DimVar, Var: b.Var, Dim: clone(b.Dim)})
+			l = append(l, api.Bind{Kind: api.DimVar, Var: b.Var, Dim: clone.Linear(b.Dim)})
 		}
 	}
 	slices.SortFunc(l, func(a, b api.Bind) int { return strings.Compare(a.Var, b.Var) })
@@ -187,5 +188,3 @@ func note(places map[string][]int, l api.Linear, i int) {
 		places[t.Var] = append(places[t.Var], i)
 	}
 }
-
-func clone(l api.Linear) api.Linear { return api.Linear{Const: l.Const, Terms: slices.Clone(l.Terms)} }
