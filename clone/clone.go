@@ -26,3 +26,26 @@ func Linear(l api.Linear) api.Linear {
 
 // Linears copies expressions.
 func Linears(l []api.Linear) []api.Linear { return Each(l, Linear) }
+
+// Shape copies a shape.
+func Shape(s api.Shape) api.Shape { return api.Shape{Row: s.Row, Dims: Linears(s.Dims)} }
+
+// Type copies a type.
+func Type(t api.Type) api.Type { return api.Type{Elem: t.Elem, Shape: Shape(t.Shape)} }
+
+// Types copies types.
+func Types(l []api.Type) []api.Type { return Each(l, Type) }
+
+// Bind copies a bind.
+func Bind(b api.Bind) api.Bind {
+	b.Dim, b.Row = Linear(b.Dim), Shape(b.Row)
+	return b
+}
+
+// Binds copies binds.
+func Binds(l []api.Bind) []api.Bind { return Each(l, Bind) }
+
+// Scheme copies a scheme.
+func Scheme(s api.Scheme) api.Scheme {
+	return api.Scheme{Params: Types(s.Params), Result: Type(s.Result), Where: Linears(s.Where)}
+}
