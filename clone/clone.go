@@ -49,3 +49,10 @@ func Binds(l []api.Bind) []api.Bind { return Each(l, Bind) }
 func Scheme(s api.Scheme) api.Scheme {
 	return api.Scheme{Params: Types(s.Params), Result: Type(s.Result), Where: Linears(s.Where)}
 }
+
+// Constraint copies a constraint.
+func Constraint(c api.Constraint) api.Constraint {
+	c.A, c.B, c.Args, c.Cells = Type(c.A), Type(c.B), Types(c.Args), Types(c.Cells)
+	c.Out, c.OutCell, c.L = Type(c.Out), Type(c.OutCell), Linear(c.L)
+	return c
+}
