@@ -56,3 +56,8 @@ func Constraint(c api.Constraint) api.Constraint {
 	c.Out, c.OutCell, c.L = Type(c.Out), Type(c.OutCell), Linear(c.L)
 	return c
 }
+
+// Array copies an array.
+func Array(a api.Array) api.Array {
+	return api.Array{Elem: a.Elem, Dims: slices.Clone(a.Dims), Data: slices.Clone(a.Data)}
+}
