@@ -61,3 +61,9 @@ func Constraint(c api.Constraint) api.Constraint {
 func Array(a api.Array) api.Array {
 	return api.Array{Elem: a.Elem, Dims: slices.Clone(a.Dims), Data: slices.Clone(a.Data)}
 }
+
+// Term copies a term.
+func Term(t api.Term) api.Term {
+	t.Array, t.Sizes, t.Ranks, t.Kids = Array(t.Array), Linears(t.Sizes), slices.Clone(t.Ranks), Each(t.Kids, Term)
+	return t
+}
