@@ -67,3 +67,19 @@ func Term(t api.Term) api.Term {
 	t.Array, t.Sizes, t.Ranks, t.Kids = Array(t.Array), Linears(t.Sizes), slices.Clone(t.Ranks), Each(t.Kids, Term)
 	return t
 }
+
+// Def copies a definition.
+func Def(d api.Def) api.Def {
+	d.Params = Each(d.Params, func(p api.Param) api.Param {
+		p.Type = Type(p.Type)
+		return p
+	})
+	d.Result, d.Body = Type(d.Result), Term(d.Body)
+	return d
+}
+
+// Module copies a module.
+func Module(m api.Module) api.Module {
+	m.Imports, m.Exports, m.Defs = slices.Clone(m.Imports), slices.Clone(m.Exports), Each(m.Defs, Def)
+	return m
+}

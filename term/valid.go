@@ -19,7 +19,7 @@ const (
 // Valid reports whether a term is valid.
 func Valid(t api.Term) bool {
 	n := 0
-	for node := range preorder(t) {
+	for node := range Nodes(t) {
 		if n++; n > api.MaxNodes || !validNode(node) {
 			return false
 		}
