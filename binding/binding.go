@@ -44,6 +44,41 @@ func (t Table) Type(x api.Type) (api.Type, api.Errno) { return types.Subst(x, t.
 // Types returns types behind substituting, or the first error.
 func (t Table) Types(l []api.Type) ([]api.Type, api.Errno) { return each(l, t.Type) }
 
+// Bind returns a bind behind substituting in what its variable stands for.
+func (t Table) Bind(b api.Bind) (api.Bind, api.Errno) {
+	var e api.Errno
+	switch b.Kind {
+	case api.DimVar:
+		b.Dim, e = t.Linear(b.Dim)
+	case api.RowVar:
+		b.Row, e = t.Shape(b.Row)
+	case api.ElemVar:
+		if by, ok := t[api.ElemVar][b.Elem]; ok {
+			b.Elem = by.Elem
+		}
+	}
+	if e != api.OK {
+		return api.Bind{}, e
+	}
+	return b, api.OK
+}
+
+// Binds returns binds behind substituting in what their variables stand for, or the first error.
+func (t Table) Binds(l []api.Bind) ([]api.Bind, api.Errno) { return each(l, t.Bind) }
+
+// Vars returns the variables of what the variable of a bind stands for.
+func Vars(b api.Bind) []api.Bind {
+	elem := b.Elem
+	if b.Kind != api.ElemVar {
+		elem = api.Int
+	}
+	s := b.Row
+	if b.Kind == api.DimVar {
+		s = api.Shape{Dims: []api.Linear{b.Dim}}
+	}
+	return types.TypeVars(api.Type{Elem: elem, Shape: s})
+}
+
 // of returns the binds of some variables.
 func (t Table) of(vars []api.Bind) []api.Bind {
 	var l []api.Bind

@@ -83,3 +83,8 @@ func Module(m api.Module) api.Module {
 	m.Imports, m.Exports, m.Defs = slices.Clone(m.Imports), slices.Clone(m.Exports), Each(m.Defs, Def)
 	return m
 }
+
+// Program copies a program.
+func Program(p api.Program) api.Program {
+	return api.Program{Defs: Each(p.Defs, Def), Schemes: Each(p.Schemes, Scheme)}
+}
