@@ -88,3 +88,20 @@ func Module(m api.Module) api.Module {
 func Program(p api.Program) api.Program {
 	return api.Program{Defs: Each(p.Defs, Def), Schemes: Each(p.Schemes, Scheme)}
 }
+
+// Cert copies a certificate.
+func Cert(c api.Cert) api.Cert {
+	return api.Cert{Kind: c.Kind, Mults: slices.Clone(c.Mults), Linear: Linear(c.Linear), Kids: Each(c.Kids, Cert)}
+}
+
+// Node copies a node.
+func Node(n api.Node) api.Node {
+	n.Array, n.Sizes, n.Ranks, n.Type, n.Frame = Array(n.Array), Linears(n.Sizes), slices.Clone(n.Ranks), Type(n.Type), Shape(n.Frame)
+	n.Framed, n.Inst, n.Certs, n.Kids = slices.Clone(n.Framed), Binds(n.Inst), Each(n.Certs, Cert), Each(n.Kids, Node)
+	return n
+}
+
+// Typed copies an elaborated definition.
+func Typed(t api.Typed) api.Typed {
+	return api.Typed{Name: t.Name, Params: slices.Clone(t.Params), Scheme: Scheme(t.Scheme), Body: Node(t.Body)}
+}
