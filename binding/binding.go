@@ -102,9 +102,10 @@ func each[T any](l []T, subst func(T) (T, api.Errno)) ([]T, api.Errno) {
 	return out, api.OK
 }
 
-// Sort sorts binds by Kind, and then by Var.
-func Sort(l []api.Bind) {
-	slices.SortFunc(l, func(a, b api.Bind) int {
-		return cmp.Or(cmp.Compare(a.Kind, b.Kind), strings.Compare(a.Var, b.Var))
-	})
+// Compare compares binds by Kind, and then by Var.
+func Compare(a, b api.Bind) int {
+	return cmp.Or(cmp.Compare(a.Kind, b.Kind), strings.Compare(a.Var, b.Var))
 }
+
+// Sort sorts binds by Kind, and then by Var.
+func Sort(l []api.Bind) { slices.SortFunc(l, Compare) }
