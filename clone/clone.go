@@ -105,3 +105,23 @@ func Node(n api.Node) api.Node {
 func Typed(t api.Typed) api.Typed {
 	return api.Typed{Name: t.Name, Params: slices.Clone(t.Params), Scheme: Scheme(t.Scheme), Body: Node(t.Body)}
 }
+
+// Steps copies scalar code.
+func Steps(l []api.Step) []api.Step {
+	return Each(l, func(s api.Step) api.Step {
+		s.Args = slices.Clone(s.Args)
+		return s
+	})
+}
+
+// Instr copies an instruction.
+func Instr(in api.Instr) api.Instr {
+	in.Args, in.Frame, in.Axes, in.Sizes = slices.Clone(in.Args), Linears(in.Frame), Each(in.Axes, slices.Clone[[]int]), Linears(in.Sizes)
+	in.Array, in.Fun, in.Type = Array(in.Array), Steps(in.Fun), Type(in.Type)
+	return in
+}
+
+// Flat copies a flat program.
+func Flat(f api.Flat) api.Flat {
+	return api.Flat{Vars: slices.Clone(f.Vars), Where: Linears(f.Where), Inputs: Types(f.Inputs), Code: Each(f.Code, Instr), Results: slices.Clone(f.Results)}
+}
