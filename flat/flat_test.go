@@ -2,7 +2,6 @@ package flat_test
 
 import (
 	"fmt"
-	"math/rand"
 	"slices"
 	"strings"
 	"testing"
@@ -13,61 +12,18 @@ import (
 	"framewise/flat"
 	"framewise/linear"
 	"framewise/poly"
-	"framewise/reduce"
+	"framewise/sample"
 	"framewise/types"
 )
 
-func typ(s string) api.Type {
-	t, e := types.Parse(s)
-	if e != api.OK {
-		panic(s)
-	}
-	return t
-}
-
-func lins(s string) []api.Linear {
-	var l []api.Linear
-	for _, part := range strings.Fields(s) {
-		d, e := linear.Parse(part)
-		if e != api.OK {
-			panic(s)
-		}
-		l = append(l, d)
-	}
-	return l
-}
-
-func prim(op string) []api.Step {
-	code, _ := reduce.Prim(op)
-	return code
-}
-
-// in parses an instruction: "op v0@0 v1 | frame | sizes".
-func in(s string, change ...func(*api.Instr)) api.Instr {
-	parts := append(strings.Split(s, "|"), "", "")
-	words := strings.Fields(parts[0])
-	i := api.Instr{Op: words[0], Frame: lins(parts[1]), Sizes: lins(parts[2])}
-	for _, w := range words[1:] {
-		v, axes, _ := strings.Cut(w[1:], "@")
-		var n int
-		fmt.Sscan(v, &n)
-		i.Args = append(i.Args, n)
-		var l []int
-		for _, x := range strings.Split(axes, ".") {
-			if fmt.Sscan(x, &n); x != "" {
-				l = append(l, n)
-			}
-		}
-		i.Axes = append(i.Axes, l)
-	}
-	if i.Op == "fold" || i.Op == "scan" {
-		i.Fun = prim("add")
-	}
-	for _, f := range change {
-		f(&i)
-	}
-	return i
-}
+var (
+	typ    = sample.Type
+	lins   = sample.Linears
+	prim   = sample.Prim
+	in     = sample.Instr
+	arrays = sample.Arrays
+	dims   = sample.Values
+)
 
 // program makes a program, whose instructions get their types.
 func program(vars, where string, inputs []string, results []int, code ...api.Instr) api.Flat {
@@ -197,28 +153,6 @@ func flatValid(f api.Flat) api.Errno {
 	return e
 }
 
-func arrays(texts ...string) []api.Array {
-	var l []api.Array
-	for _, s := range texts {
-		a, e := array.Parse(s)
-		if e != api.OK {
-			panic(s)
-		}
-		l = append(l, a)
-	}
-	return l
-}
-
-func dims(s string) []api.Value {
-	var l []api.Value
-	for _, part := range strings.Fields(s) {
-		v := api.Value{Var: part[:1]}
-		fmt.Sscan(part[2:], &v.N)
-		l = append(l, v)
-	}
-	return l
-}
-
 func outcome(results []api.Array, violated []int, e api.Errno) string {
 	if e != api.OK {
 		return api.Name(e)
@@ -277,63 +211,19 @@ func TestPrint(t *testing.T) { // P38.1
 	}
 }
 
-// random returns a program that runs for all n and m from 1 on.
-func random(r *rand.Rand) api.Flat {
-	inputs := []string{"[n]int", "[m]int", "int", "bool", "[n, m]int"}
-	f := program("m n", "", inputs, []int{0})
-	lines := []string{"add v0@0 v2|n", "sub v4@0.1 v1@1|n m", "fold v2 v0", "fold v2 v4@0|n", "scan v4@0|n", "reverse v0", "transpose v4", "append v0 v1", "iota ||n", "fill v0@0|n|m", "index v0 v2", "update v0 v2 v2", "lt v0@0 v2|n", "select v3 v0@0 v2|n", "size ||n+m", "pack v2 v0@0|n", "index v4@0 v0@0|n", "take v0||n", "drop v0||0", "windows v0||n", "neg v2"}
-	for range 1 + r.Intn(6) {
-		i := in(lines[r.Intn(len(lines))])
-		if i.Op == "index" || i.Op == "update" {
-			i.Check = r.Intn(4)
-		}
-		// Some argument is another value of the same type.
-		values := flat.Types(f)
-		for j, a := range i.Args {
-			for v, t := range values {
-				if types.Equal(t, values[a]) && r.Intn(3) == 0 {
-					i.Args[j] = v
-				}
-			}
-		}
-		t, conds, e := flat.Infer(values, i)
-		if e != api.OK {
-			panic(e)
-		}
-		i.Type = t
-		f.Where = append(f.Where, conds...)
-		f.Code = append(f.Code, i)
-	}
-	f.Results = []int{len(f.Inputs) + len(f.Code) - 1, r.Intn(len(f.Inputs) + len(f.Code))}
-	return f
-}
-
-func randomInputs(r *rand.Rand, n, m int) []api.Array {
-	list := func(dims ...int) api.Array {
-		a := api.Array{Elem: "int", Dims: dims}
-		size, _ := array.Size(dims)
-		for range size {
-			a.Data = append(a.Data, r.Intn(7)-2)
-		}
-		return a
-	}
-	return []api.Array{list(n), list(m), list(), {Elem: "bool", Data: []int{r.Intn(2)}}, list(n, m)}
-}
-
 func TestRandom(t *testing.T) { // P38.2, P38.3, P38.4, P38.5, P38.6
-	r := rand.New(rand.NewSource(1))
+	d := sample.NewDice(1)
 	for range 1000 {
-		f := random(r)
+		f := sample.Flat(d, 6)
 		if at, e := flat.Valid(f); e != api.OK {
 			t.Fatalf("%d %d", at, e)
 		}
-		n, m := r.Intn(4), r.Intn(4)
-		values := []api.Value{{Var: "m", N: m}, {Var: "n", N: n}}
-		inputs := randomInputs(r, n, m)
+		values := sample.Dims(d, 3)
+		inputs := sample.Inputs(d, f.Inputs, values)
 		results, violated, e := flat.Run(f, values, inputs)
 		want := outcome(results, violated, e)
 		if e != api.OK {
-			t.Fatalf("%d", e)
+			continue // a condition does not hold, or an array is too great
 		}
 		g, e := flat.Ground(f, values)
 		if _, h := flat.Valid(g); e != api.OK || h != api.OK || len(g.Vars) > 0 || len(g.Where) > 0 {
