@@ -12,7 +12,9 @@ import (
 	"framewise/exec"
 	"framewise/flat"
 	"framewise/inline"
+	"framewise/proof"
 	"framewise/shape"
+	"framewise/simplify"
 )
 
 // special is an instance of a definition: its ranks and element types, and the values of variables.
@@ -123,23 +125,34 @@ func eachFlat(t *testing.T, seed int64, count int, f func(c flattened)) {
 	}
 }
 
-func TestFlat(t *testing.T) { // P39.2
-	compared := 0
-	eachFlat(t, 7, 400, func(c flattened) {
+func TestFlat(t *testing.T) { // P39.2, W6
+	compared, steps := 0, 0
+	eachFlat(t, 7, 300, func(c flattened) {
 		if at, e := flat.Valid(c.flat); e != api.OK {
 			t.Fatalf("%s: %s: instruction %d", c.text, c.def.Name, at)
 		}
-		got, violated, e := flat.Run(c.flat, c.dims, c.inputs)
-		if isSize(e) {
-			return
+		_, p, e := simplify.Run(c.flat)
+		trace, f := proof.Trace(c.flat, p)
+		if e != api.OK || f != api.OK {
+			t.Fatalf("%s: %s: %d %d", c.text, c.def.Name, e, f)
 		}
-		compared++
-		if e != api.OK || !array.Equal(got[0], c.out) || !slices.Equal(violated, c.violated) {
-			t.Fatalf("%s: %s of %v: %v %v %d, not %v %v", c.text, c.def.Name, c.inputs, got, violated, e, c.out, c.violated)
+		for _, g := range trace {
+			got, violated, e := flat.Run(g, c.dims, c.inputs)
+			if !flat.Holds(g.Where, c.dims) {
+				t.Fatalf("%s: %s of %v: a condition does not hold", c.text, c.def.Name, c.inputs)
+			}
+			if e == api.ErrLimit || e == api.ErrRange {
+				continue
+			}
+			compared++
+			if e != api.OK || !array.Equal(got[0], c.out) || !slices.Equal(violated, c.violated) {
+				t.Fatalf("%s: %s of %v: %v %v %d, not %v %v", c.text, c.def.Name, c.inputs, got, violated, e, c.out, c.violated)
+			}
 		}
+		steps += len(p)
 	})
-	t.Logf("%d", compared)
-	if compared < 200 {
-		t.Errorf("%d", compared)
+	t.Logf("%d programs, %d steps", compared, steps)
+	if compared < 1000 || steps < 500 {
+		t.Errorf("%d programs, %d steps", compared, steps)
 	}
 }
