@@ -125,3 +125,9 @@ func Instr(in api.Instr) api.Instr {
 func Flat(f api.Flat) api.Flat {
 	return api.Flat{Vars: slices.Clone(f.Vars), Where: Linears(f.Where), Inputs: Types(f.Inputs), Code: Each(f.Code, Instr), Results: slices.Clone(f.Results)}
 }
+
+// Pull copies a pull.
+func Pull(p api.Pull) api.Pull {
+	p.At, p.Fun, p.Kids = Linears(p.At), Steps(p.Fun), Each(p.Kids, Pull)
+	return p
+}
