@@ -131,3 +131,14 @@ func Pull(p api.Pull) api.Pull {
 	p.At, p.Fun, p.Kids = Linears(p.At), Steps(p.Fun), Each(p.Kids, Pull)
 	return p
 }
+
+// Kernel copies a kernel.
+func Kernel(k api.Kernel) api.Kernel {
+	k.Space, k.Body, k.Fun, k.Index = Linears(k.Space), Pull(k.Body), Steps(k.Fun), Pull(k.Index)
+	return k
+}
+
+// Kernels copies a fused program.
+func Kernels(k api.Kernels) api.Kernels {
+	return api.Kernels{Vars: slices.Clone(k.Vars), Where: Linears(k.Where), Inputs: k.Inputs, Values: Types(k.Values), List: Each(k.List, Kernel), Results: slices.Clone(k.Results)}
+}
