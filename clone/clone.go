@@ -142,3 +142,14 @@ func Kernel(k api.Kernel) api.Kernel {
 func Kernels(k api.Kernels) api.Kernels {
 	return api.Kernels{Vars: slices.Clone(k.Vars), Where: Linears(k.Where), Inputs: k.Inputs, Values: Types(k.Values), List: Each(k.List, Kernel), Results: slices.Clone(k.Results)}
 }
+
+// Nest copies a loop nest.
+func Nest(n api.Nest) api.Nest {
+	n.Loops = Each(n.Loops, func(l api.Loop) api.Loop {
+		l.Lo, l.Hi = Linear(l.Lo), Linears(l.Hi)
+		return l
+	})
+	n.Write.At = Linears(n.Write.At)
+	n.Index, n.Body = Pull(n.Index), Pull(n.Body)
+	return n
+}
