@@ -24,46 +24,35 @@ func fused(f api.Flat) api.Kernels {
 	return k
 }
 
-func read(v int, at string) api.Pull {
-	return api.Pull{Op: "read", Value: v, At: sample.Linears(at)}
-}
-
-func num(n int) api.Pull { return api.Pull{Op: "const", Num: n} }
-
 func lin(s string) api.Pull { return api.Pull{Op: "linear", At: sample.Linears(s)} }
-
-// loop returns a loop with a step of 1.
-func loop(v, lo, hi string) api.Loop {
-	return api.Loop{Var: v, Lo: sample.Linear(lo), Hi: sample.Linears(hi), Step: 1}
-}
 
 // write returns an access.
 func write(v int, at string) api.Access { return api.Access{Value: v, At: sample.Linears(at)} }
 
 // triangle writes i0 + 10 i1 at i0 and i1, for i1 up to i0.
 func triangle() api.Nest {
-	return api.Nest{Loops: []api.Loop{loop("i0", "0", "n"), loop("i1", "0", "i0+1 n+7")}, Write: write(1, "i0 i1"), Body: lin("i0+10i1")}
+	return api.Nest{Loops: []api.Loop{sample.Loop("i0", "0", "n"), sample.Loop("i1", "0", "i0+1 n+7")}, Write: write(1, "i0 i1"), Body: lin("i0+10i1")}
 }
 
 // dynamic writes v0[i0] at i1 and v0[i0].
 func dynamic() api.Nest {
 	n := triangle()
 	n.Write = api.Access{Value: 1, At: sample.Linears("i1"), Dynamic: true}
-	n.Index, n.Body, n.Check = read(0, "i0"), read(0, "i0"), 3
+	n.Index, n.Body, n.Check = sample.Read(0, "i0"), sample.Read(0, "i0"), 3
 	return n
 }
 
 func TestValid(t *testing.T) { // P49.1
 	vars := []string{"m", "n"}
-	if !nest.Valid(triangle(), vars, 2) || !nest.Valid(dynamic(), vars, 2) || !nest.Valid(api.Nest{Body: num(1)}, nil, 1) {
+	if !nest.Valid(triangle(), vars, 2) || !nest.Valid(dynamic(), vars, 2) || !nest.Valid(api.Nest{Body: sample.Number(1)}, nil, 1) {
 		t.Fatal("valid nests")
 	}
 	for i, f := range []func(n *api.Nest){
 		func(n *api.Nest) { n.Loops[0].Var = "I" }, func(n *api.Nest) { n.Loops[0].Var = "" }, func(n *api.Nest) { n.Loops[0].Var = "n" }, func(n *api.Nest) { n.Loops[1].Var = "i0" }, func(n *api.Nest) { n.Loops[0].Lo = sample.Linear("i0") }, func(n *api.Nest) { n.Loops[0].Hi = sample.Linears("n i1") }, func(n *api.Nest) { n.Loops[1].Lo = sample.Linear("k") }, func(n *api.Nest) { n.Loops[0].Hi = nil }, func(n *api.Nest) { n.Loops[0].Hi = sample.Linears("1 2 3 4 5") }, func(n *api.Nest) { n.Loops[0].Lo = linear.Var("N") }, func(n *api.Nest) { n.Loops[0].Hi[0] = linear.Var("N") }, func(n *api.Nest) { n.Loops[0].Step = 0 }, func(n *api.Nest) { n.Loops[0].Step = 4097 }, func(n *api.Nest) { n.Loops = slices.Repeat(n.Loops, 7) },
-		func(n *api.Nest) { n.Write.Value = -1 }, func(n *api.Nest) { n.Write.Value = 2 }, func(n *api.Nest) { n.Write.At = sample.Linears("0 0 0 0 0 0 0") }, func(n *api.Nest) { n.Write.At = sample.Linears("k") }, func(n *api.Nest) { n.Write.At[0] = linear.Var("N") }, func(n *api.Nest) { n.Body = read(2, "") }, func(n *api.Nest) { n.Body = lin("k") }, func(n *api.Nest) { n.Body = api.Pull{} }, func(n *api.Nest) { n.Index = num(0) }, func(n *api.Nest) { n.Check = 1 }, func(n *api.Nest) { n.Write.Dynamic = true },
+		func(n *api.Nest) { n.Write.Value = -1 }, func(n *api.Nest) { n.Write.Value = 2 }, func(n *api.Nest) { n.Write.At = sample.Linears("0 0 0 0 0 0 0") }, func(n *api.Nest) { n.Write.At = sample.Linears("k") }, func(n *api.Nest) { n.Write.At[0] = linear.Var("N") }, func(n *api.Nest) { n.Body = sample.Read(2, "") }, func(n *api.Nest) { n.Body = lin("k") }, func(n *api.Nest) { n.Body = api.Pull{} }, func(n *api.Nest) { n.Index = sample.Number(0) }, func(n *api.Nest) { n.Check = 1 }, func(n *api.Nest) { n.Write.Dynamic = true },
 		func(n *api.Nest) { *n = dynamic(); n.Check = -1 }, func(n *api.Nest) { *n = dynamic(); n.Index = lin("k") }, func(n *api.Nest) { *n = dynamic(); n.Write.At = sample.Linears("0 0 0 0 0 0") }, func(n *api.Nest) { *n = dynamic(); n.Write.Dynamic = false },
 		func(n *api.Nest) {
-			n.Body = api.Pull{Op: "reduce", Name: "i1", At: sample.Linears("n"), Fun: sample.Prim("add"), Kids: []api.Pull{num(0), num(1)}}
+			n.Body = api.Pull{Op: "reduce", Name: "i1", At: sample.Linears("n"), Fun: sample.Prim("add"), Kids: []api.Pull{sample.Number(0), sample.Number(1)}}
 		},
 	} {
 		n := clone.Nest(triangle())
@@ -79,7 +68,7 @@ func TestValid(t *testing.T) { // P49.1
 		func(n *api.Nest) { n.Loops[0].Step = 4096 }, func(n *api.Nest) { n.Loops[0].Hi = sample.Linears("1 2 3 m") }, func(n *api.Nest) { n.Write.At = sample.Linears("0 0 0 0 0 0") }, func(n *api.Nest) {
 			n.Loops = nil
 			for k := range 12 {
-				n.Loops = append(n.Loops, loop(pull.Loop(k), "0", "1"))
+				n.Loops = append(n.Loops, sample.Loop(pull.Loop(k), "0", "1"))
 			}
 		}, func(n *api.Nest) { *n = dynamic(); n.Write.At = sample.Linears("0 0 0 0 0") },
 	} {
@@ -95,25 +84,25 @@ func TestValid(t *testing.T) { // P49.1
 }
 
 func TestPoints(t *testing.T) { // P49.1, P49.3
-	empty := api.Nest{Loops: []api.Loop{loop("a", "0", "20000"), loop("b", "0", "12"), loop("c", "0", "0")}, Body: num(1)}
+	empty := api.Nest{Loops: []api.Loop{sample.Loop("a", "0", "20000"), sample.Loop("b", "0", "12"), sample.Loop("c", "0", "0")}, Body: sample.Number(1)}
 	for i, c := range []struct {
 		n    api.Nest
 		env  string
 		want [][]int
 		e    api.Errno
 	}{
-		{triangle(), "n=2", [][]int{{0, 0}, {1, 0}, {1, 1}}, 0}, {triangle(), "n=0", nil, 0}, {triangle(), "n=-5", nil, 0}, {api.Nest{Body: num(1)}, "", [][]int{nil}, 0},
-		{api.Nest{Loops: []api.Loop{{Var: "x", Lo: sample.Linear("n"), Hi: sample.Linears("9"), Step: 3}}, Body: num(1)}, "n=2", [][]int{{2}, {5}, {8}}, 0},
-		{api.Nest{Loops: []api.Loop{loop("x", "-2", "9 n 3")}, Body: num(1)}, "n=0 z=5", [][]int{{-2}, {-1}}, 0},
-		{triangle(), "", nil, api.ErrArg}, {triangle(), "n=2 n=2", nil, api.ErrArg}, {triangle(), "n=2 i0=2", nil, api.ErrArg}, {api.Nest{Body: num(1), Write: write(999, "")}, "", [][]int{nil}, 0}, {api.Nest{Body: num(1), Write: write(1000, "")}, "", nil, api.ErrArg}, {api.Nest{}, "", nil, api.ErrArg},
-		{triangle(), "n=2000000000", nil, api.ErrRange}, {api.Nest{Loops: []api.Loop{loop("x", "1000n", "1000n+2"), loop("y", "x", "x+1")}, Body: num(1)}, "n=1000000", nil, api.ErrRange}, {triangle(), "n=200", nil, api.ErrLimit}, {empty, "", nil, api.ErrLimit},
+		{triangle(), "n=2", [][]int{{0, 0}, {1, 0}, {1, 1}}, 0}, {triangle(), "n=0", nil, 0}, {triangle(), "n=-5", nil, 0}, {api.Nest{Body: sample.Number(1)}, "", [][]int{nil}, 0},
+		{api.Nest{Loops: []api.Loop{{Var: "x", Lo: sample.Linear("n"), Hi: sample.Linears("9"), Step: 3}}, Body: sample.Number(1)}, "n=2", [][]int{{2}, {5}, {8}}, 0},
+		{api.Nest{Loops: []api.Loop{sample.Loop("x", "-2", "9 n 3")}, Body: sample.Number(1)}, "n=0 z=5", [][]int{{-2}, {-1}}, 0},
+		{triangle(), "", nil, api.ErrArg}, {triangle(), "n=2 n=2", nil, api.ErrArg}, {triangle(), "n=2 i0=2", nil, api.ErrArg}, {api.Nest{Body: sample.Number(1), Write: write(999, "")}, "", [][]int{nil}, 0}, {api.Nest{Body: sample.Number(1), Write: write(1000, "")}, "", nil, api.ErrArg}, {api.Nest{}, "", nil, api.ErrArg},
+		{triangle(), "n=2000000000", nil, api.ErrRange}, {api.Nest{Loops: []api.Loop{sample.Loop("x", "1000n", "1000n+2"), sample.Loop("y", "x", "x+1")}, Body: sample.Number(1)}, "n=1000000", nil, api.ErrRange}, {triangle(), "n=200", nil, api.ErrLimit}, {empty, "", nil, api.ErrLimit},
 	} {
 		got, e := nest.Points(c.n, sample.Values(c.env))
 		if !slices.EqualFunc(got, c.want, slices.Equal[[]int]) || e != c.e {
 			t.Errorf("%d: %v %d", i, got, e)
 		}
 	}
-	exact := api.Nest{Loops: []api.Loop{loop("x", "0", "20000")}, Body: num(1)}
+	exact := api.Nest{Loops: []api.Loop{sample.Loop("x", "0", "20000")}, Body: sample.Number(1)}
 	if l, e := nest.Points(exact, nil); len(l) != 20000 || e != api.OK {
 		t.Errorf("%d %d", len(l), e)
 	}
@@ -145,30 +134,33 @@ func TestRun(t *testing.T) { // P49.1
 		{none, "n=0", "#[2 2: 9 9 9 9] ", api.Counts{}, nil, 0},
 		{func(n *api.Nest) { *n = dynamic() }, "n=2", "#[2 2: 9 1 9 9] ", api.Counts{Reads: 6, Writes: 3}, []int{3}, 0},
 		{func(n *api.Nest) { *n = dynamic(); n.Check = 0 }, "n=2", "#[2 2: 9 1 9 9] ", api.Counts{Reads: 6, Writes: 3}, nil, 0},
-		{func(n *api.Nest) { *n = dynamic(); n.Index = num(-1) }, "n=2", "#[2 2: 9 9 9 9] ", api.Counts{Reads: 3, Writes: 3}, []int{3}, 0},
-		{func(n *api.Nest) { n.Body = add(read(1, "i0 i1"), read(0, "i1")) }, "n=2", "#[2 2: 10 9 10 14] ", api.Counts{Reads: 6, Writes: 3, Ops: 3}, nil, 0},
-		{func(n *api.Nest) { n.Write.At = sample.Linears("0 0"); n.Body = add(read(1, "0 0"), num(1)) }, "n=2", "#[2 2: 12 9 9 9] ", api.Counts{Reads: 3, Writes: 3, Ops: 3}, nil, 0},
-		{func(n *api.Nest) { n.Loops = nil; n.Write.At = sample.Linears("n 0"); n.Body = num(4) }, "n=1", "#[2 2: 9 9 4 9] ", api.Counts{Writes: 1}, nil, 0},
-		{none, "n=3", "", api.Counts{}, nil, api.ErrRange}, {func(n *api.Nest) { n.Write.At = sample.Linears("i0") }, "n=2", "", api.Counts{}, nil, api.ErrRank}, {func(n *api.Nest) { n.Write.At = sample.Linears("0 0 0") }, "n=2", "", api.Counts{}, nil, api.ErrRank}, {func(n *api.Nest) { n.Write.At = sample.Linears("i0-1 0") }, "n=2", "", api.Counts{}, nil, api.ErrRange}, {func(n *api.Nest) { *n = dynamic(); n.Write.At = sample.Linears("i0+1") }, "n=2", "", api.Counts{}, nil, api.ErrRange}, {func(n *api.Nest) { n.Write = write(2, "0") }, "n=2", "", api.Counts{}, nil, api.ErrType}, {func(n *api.Nest) { n.Write = write(2, "0"); n.Body = num(1) }, "n=2", "#[2 2: 9 9 9 9] ", api.Counts{Writes: 3}, nil, 0},
+		{func(n *api.Nest) { *n = dynamic(); n.Index = sample.Number(-1) }, "n=2", "#[2 2: 9 9 9 9] ", api.Counts{Reads: 3, Writes: 3}, []int{3}, 0},
+		{func(n *api.Nest) { n.Body = add(sample.Read(1, "i0 i1"), sample.Read(0, "i1")) }, "n=2", "#[2 2: 10 9 10 14] ", api.Counts{Reads: 6, Writes: 3, Ops: 3}, nil, 0},
+		{func(n *api.Nest) {
+			n.Write.At = sample.Linears("0 0")
+			n.Body = add(sample.Read(1, "0 0"), sample.Number(1))
+		}, "n=2", "#[2 2: 12 9 9 9] ", api.Counts{Reads: 3, Writes: 3, Ops: 3}, nil, 0},
+		{func(n *api.Nest) { n.Loops = nil; n.Write.At = sample.Linears("n 0"); n.Body = sample.Number(4) }, "n=1", "#[2 2: 9 9 4 9] ", api.Counts{Writes: 1}, nil, 0},
+		{none, "n=3", "", api.Counts{}, nil, api.ErrRange}, {func(n *api.Nest) { n.Write.At = sample.Linears("i0") }, "n=2", "", api.Counts{}, nil, api.ErrRank}, {func(n *api.Nest) { n.Write.At = sample.Linears("0 0 0") }, "n=2", "", api.Counts{}, nil, api.ErrRank}, {func(n *api.Nest) { n.Write.At = sample.Linears("i0-1 0") }, "n=2", "", api.Counts{}, nil, api.ErrRange}, {func(n *api.Nest) { *n = dynamic(); n.Write.At = sample.Linears("i0+1") }, "n=2", "", api.Counts{}, nil, api.ErrRange}, {func(n *api.Nest) { n.Write = write(2, "0") }, "n=2", "", api.Counts{}, nil, api.ErrType}, {func(n *api.Nest) { n.Write = write(2, "0"); n.Body = sample.Number(1) }, "n=2", "#[2 2: 9 9 9 9] ", api.Counts{Writes: 3}, nil, 0},
 		{func(n *api.Nest) {
 			*n = dynamic()
 			n.Write = api.Access{Value: 2, Dynamic: true}
-			n.Index = num(7)
-			n.Body = num(2)
+			n.Index = sample.Number(7)
+			n.Body = sample.Number(2)
 		}, "n=2", "", api.Counts{}, nil, api.ErrType},
-		{func(n *api.Nest) { n.Body = read(0, "i0+2") }, "n=2", "", api.Counts{}, nil, api.ErrRange}, {func(n *api.Nest) { n.Body = read(0, "") }, "n=2", "", api.Counts{}, nil, api.ErrRank}, {func(n *api.Nest) { n.Body = api.Pull{Op: "not", Kids: []api.Pull{num(2)}} }, "n=2", "", api.Counts{}, nil, api.ErrType}, {func(n *api.Nest) { n.Body = lin("m") }, "m=2000000000 n=2", "", api.Counts{}, nil, api.ErrLimit}, {func(n *api.Nest) { n.Write.At = sample.Linears("m 0") }, "m=2000000000 n=2", "", api.Counts{}, nil, api.ErrRange}, {func(n *api.Nest) { n.Loops[0].Lo = sample.Linear("m") }, "m=2000000000 n=2", "", api.Counts{}, nil, api.ErrRange},
-		{func(n *api.Nest) { n.Body = read(3, "") }, "n=2", "", api.Counts{}, nil, api.ErrArg}, {func(n *api.Nest) { n.Body = read(3, "") }, "n=0", "#[2 2: 9 9 9 9] ", api.Counts{}, nil, 0}, {func(n *api.Nest) { n.Write.Value = 3 }, "n=0", "", api.Counts{}, nil, api.ErrArg}, {func(n *api.Nest) { n.Write.Value = 4 }, "n=0", "", api.Counts{}, nil, api.ErrArg}, {none, "m=2", "", api.Counts{}, nil, api.ErrArg}, {none, "n=2 n=2", "", api.Counts{}, nil, api.ErrArg}, {func(n *api.Nest) { *n = dynamic(); n.Index, n.Body = read(0, "9"), read(3, "") }, "n=2", "", api.Counts{}, nil, api.ErrRange}, {func(n *api.Nest) { *n = dynamic(); n.Index, n.Body = read(3, ""), read(0, "9") }, "n=2", "", api.Counts{}, nil, api.ErrArg},
+		{func(n *api.Nest) { n.Body = sample.Read(0, "i0+2") }, "n=2", "", api.Counts{}, nil, api.ErrRange}, {func(n *api.Nest) { n.Body = sample.Read(0, "") }, "n=2", "", api.Counts{}, nil, api.ErrRank}, {func(n *api.Nest) { n.Body = api.Pull{Op: "not", Kids: []api.Pull{sample.Number(2)}} }, "n=2", "", api.Counts{}, nil, api.ErrType}, {func(n *api.Nest) { n.Body = lin("m") }, "m=2000000000 n=2", "", api.Counts{}, nil, api.ErrLimit}, {func(n *api.Nest) { n.Write.At = sample.Linears("m 0") }, "m=2000000000 n=2", "", api.Counts{}, nil, api.ErrRange}, {func(n *api.Nest) { n.Loops[0].Lo = sample.Linear("m") }, "m=2000000000 n=2", "", api.Counts{}, nil, api.ErrRange},
+		{func(n *api.Nest) { n.Body = sample.Read(3, "") }, "n=2", "", api.Counts{}, nil, api.ErrArg}, {func(n *api.Nest) { n.Body = sample.Read(3, "") }, "n=0", "#[2 2: 9 9 9 9] ", api.Counts{}, nil, 0}, {func(n *api.Nest) { n.Write.Value = 3 }, "n=0", "", api.Counts{}, nil, api.ErrArg}, {func(n *api.Nest) { n.Write.Value = 4 }, "n=0", "", api.Counts{}, nil, api.ErrArg}, {none, "m=2", "", api.Counts{}, nil, api.ErrArg}, {none, "n=2 n=2", "", api.Counts{}, nil, api.ErrArg}, {func(n *api.Nest) { *n = dynamic(); n.Index, n.Body = sample.Read(0, "9"), sample.Read(3, "") }, "n=2", "", api.Counts{}, nil, api.ErrRange}, {func(n *api.Nest) { *n = dynamic(); n.Index, n.Body = sample.Read(3, ""), sample.Read(0, "9") }, "n=2", "", api.Counts{}, nil, api.ErrArg},
 		{func(n *api.Nest) {
-			n.Write.At, n.Loops = sample.Linears("0 0"), []api.Loop{loop("x", "0", "20001")}
-			n.Body = num(1)
+			n.Write.At, n.Loops = sample.Linears("0 0"), []api.Loop{sample.Loop("x", "0", "20001")}
+			n.Body = sample.Number(1)
 		}, "n=2", "", api.Counts{}, nil, api.ErrLimit},
 		{func(n *api.Nest) {
-			n.Write.At, n.Loops = sample.Linears("0 0"), []api.Loop{loop("x", "0", "20001")}
-			n.Body = read(0, "x")
+			n.Write.At, n.Loops = sample.Linears("0 0"), []api.Loop{sample.Loop("x", "0", "20001")}
+			n.Body = sample.Read(0, "x")
 		}, "n=2", "", api.Counts{}, nil, api.ErrRange},
 		{func(n *api.Nest) {
-			n.Write.At, n.Loops = sample.Linears("0 0"), []api.Loop{loop("x", "0", "20001")}
-			n.Body = read(0, "x-20000")
+			n.Write.At, n.Loops = sample.Linears("0 0"), []api.Loop{sample.Loop("x", "0", "20001")}
+			n.Body = sample.Read(0, "x-20000")
 		}, "n=2", "", api.Counts{}, nil, api.ErrRange},
 	} {
 		n := clone.Nest(triangle())
@@ -194,24 +186,24 @@ func TestOf(t *testing.T) { // P49.1
 		k.Values = append(k.Values, sample.Type(s))
 	}
 	k.List = []api.Kernel{
-		{Kind: api.KernelMap, Value: 1, Space: sample.Linears("m n"), Body: read(0, "i1"), Index: num(4), Check: 7},
-		{Kind: api.KernelScan, Value: 2, Space: sample.Linears("n"), Body: read(0, "i0"), Fun: sample.Prim("max")},
-		{Kind: api.KernelUpdate, Value: 2, Source: 0, Body: read(0, "0"), Index: read(0, "1"), Check: 2},
-		{Kind: api.KernelUpdate, Value: 1, Source: 1, Space: sample.Linears("m"), Body: read(0, "i0"), Index: num(3)},
+		{Kind: api.KernelMap, Value: 1, Space: sample.Linears("m n"), Body: sample.Read(0, "i1"), Index: sample.Number(4), Check: 7},
+		{Kind: api.KernelScan, Value: 2, Space: sample.Linears("n"), Body: sample.Read(0, "i0"), Fun: sample.Prim("max")},
+		{Kind: api.KernelUpdate, Value: 2, Source: 0, Body: sample.Read(0, "0"), Index: sample.Read(0, "1"), Check: 2},
+		{Kind: api.KernelUpdate, Value: 1, Source: 1, Space: sample.Linears("m"), Body: sample.Read(0, "i0"), Index: sample.Number(3)},
 	}
 	all := func(v string, dims ...string) []api.Loop {
 		var l []api.Loop
 		for i, d := range dims {
-			l = append(l, loop(v+string(rune('0'+i)), "0", d))
+			l = append(l, sample.Loop(v+string(rune('0'+i)), "0", d))
 		}
 		return l
 	}
-	code := api.Pull{Op: "code", Fun: sample.Prim("max"), Kids: []api.Pull{read(2, "i0-1"), read(0, "i0")}}
-	scan := api.Nest{Loops: all("i", "n"), Write: write(2, "i0"), Body: api.Pull{Op: "if", At: sample.Linears("i0-1"), Kids: []api.Pull{code, read(0, "i0")}}}
-	copied := api.Nest{Loops: all("i", "n"), Write: write(2, "i0"), Body: read(0, "i0")}
-	update := api.Nest{Write: api.Access{Value: 2, Dynamic: true}, Index: read(0, "1"), Body: read(0, "0"), Check: 2}
-	again := api.Nest{Loops: all("i", "m"), Write: api.Access{Value: 1, At: sample.Linears("i0"), Dynamic: true}, Index: num(3), Body: read(0, "i0")}
-	mapped := api.Nest{Loops: all("i", "m", "n"), Write: write(1, "i0 i1"), Body: read(0, "i1")}
+	code := api.Pull{Op: "code", Fun: sample.Prim("max"), Kids: []api.Pull{sample.Read(2, "i0-1"), sample.Read(0, "i0")}}
+	scan := api.Nest{Loops: all("i", "n"), Write: write(2, "i0"), Body: api.Pull{Op: "if", At: sample.Linears("i0-1"), Kids: []api.Pull{code, sample.Read(0, "i0")}}}
+	copied := api.Nest{Loops: all("i", "n"), Write: write(2, "i0"), Body: sample.Read(0, "i0")}
+	update := api.Nest{Write: api.Access{Value: 2, Dynamic: true}, Index: sample.Read(0, "1"), Body: sample.Read(0, "0"), Check: 2}
+	again := api.Nest{Loops: all("i", "m"), Write: api.Access{Value: 1, At: sample.Linears("i0"), Dynamic: true}, Index: sample.Number(3), Body: sample.Read(0, "i0")}
+	mapped := api.Nest{Loops: all("i", "m", "n"), Write: write(1, "i0 i1"), Body: sample.Read(0, "i1")}
 	for i, c := range []struct {
 		k       int
 		inPlace bool
@@ -229,7 +221,7 @@ func TestOf(t *testing.T) { // P49.1
 		at int
 		e  api.Errno
 	}{
-		{func(k *api.Kernels) {}, -1, api.ErrRange}, {func(k *api.Kernels) {}, 4, api.ErrRange}, {func(k *api.Kernels) { k.List[0].Kind = 0 }, 0, api.ErrArg}, {func(k *api.Kernels) { k.List[0].Kind = 4 }, 0, api.ErrArg}, {func(k *api.Kernels) { k.List[0].Value = 3 }, 0, api.ErrArg}, {func(k *api.Kernels) { k.List[0].Value = -1 }, 0, api.ErrArg}, {func(k *api.Kernels) { k.List[2].Value = 3 }, 2, api.ErrArg}, {func(k *api.Kernels) { k.List[1].Space = nil }, 1, api.ErrArg}, {func(k *api.Kernels) { k.List[1].Fun = []api.Step{{Op: "add"}} }, 1, api.ErrArg}, {func(k *api.Kernels) { k.List[1].Body = read(0, "i1") }, 1, api.ErrArg}, {func(k *api.Kernels) { k.List[2].Source = 3 }, 2, api.ErrArg}, {func(k *api.Kernels) { k.List[2].Index = api.Pull{} }, 2, api.ErrArg}, {func(k *api.Kernels) { k.List[2].Check = -1 }, 2, api.ErrArg}, {func(k *api.Kernels) { k.Vars = []string{"i0", "m", "n"} }, 0, api.ErrArg}, {func(k *api.Kernels) { k.Vars = []string{"m"} }, 2, api.ErrArg}, {func(k *api.Kernels) { k.List[0].Space = sample.Linears("m n m n m n m n m n m n m") }, 0, api.ErrArg}, {func(k *api.Kernels) { k.List[3].Space = sample.Linears("m n m n m n") }, 3, api.ErrArg},
+		{func(k *api.Kernels) {}, -1, api.ErrRange}, {func(k *api.Kernels) {}, 4, api.ErrRange}, {func(k *api.Kernels) { k.List[0].Kind = 0 }, 0, api.ErrArg}, {func(k *api.Kernels) { k.List[0].Kind = 4 }, 0, api.ErrArg}, {func(k *api.Kernels) { k.List[0].Value = 3 }, 0, api.ErrArg}, {func(k *api.Kernels) { k.List[0].Value = -1 }, 0, api.ErrArg}, {func(k *api.Kernels) { k.List[2].Value = 3 }, 2, api.ErrArg}, {func(k *api.Kernels) { k.List[1].Space = nil }, 1, api.ErrArg}, {func(k *api.Kernels) { k.List[1].Fun = []api.Step{{Op: "add"}} }, 1, api.ErrArg}, {func(k *api.Kernels) { k.List[1].Body = sample.Read(0, "i1") }, 1, api.ErrArg}, {func(k *api.Kernels) { k.List[2].Source = 3 }, 2, api.ErrArg}, {func(k *api.Kernels) { k.List[2].Index = api.Pull{} }, 2, api.ErrArg}, {func(k *api.Kernels) { k.List[2].Check = -1 }, 2, api.ErrArg}, {func(k *api.Kernels) { k.Vars = []string{"i0", "m", "n"} }, 0, api.ErrArg}, {func(k *api.Kernels) { k.Vars = []string{"m"} }, 2, api.ErrArg}, {func(k *api.Kernels) { k.List[0].Space = sample.Linears("m n m n m n m n m n m n m") }, 0, api.ErrArg}, {func(k *api.Kernels) { k.List[3].Space = sample.Linears("m n m n m n") }, 3, api.ErrArg},
 	} {
 		k := clone.Kernels(k)
 		c.f(&k)
@@ -290,36 +282,19 @@ func TestAll(t *testing.T) { // P49.1
 	}
 	// A value has zeros only ahead of its first kernel, even if it is an input.
 	k = api.Kernels{Inputs: 1, Values: []api.Type{sample.Type("[2]int")}, Results: []int{0}}
-	k.List = []api.Kernel{{Kind: api.KernelUpdate, Body: num(5), Index: num(0)}, {Kind: api.KernelUpdate, Body: num(6), Index: num(1)}}
+	k.List = []api.Kernel{{Kind: api.KernelUpdate, Body: sample.Number(5), Index: sample.Number(0)}, {Kind: api.KernelUpdate, Body: sample.Number(6), Index: sample.Number(1)}}
 	if results, counts, _, e := nest.All(k, nil, sample.Arrays("#[2: 8 9]")); sample.Text(results) != "#[2: 5 6] " || counts.Writes != 2 || e != api.OK {
 		t.Errorf("%v %v %d", results, counts, e)
 	}
-}
-
-// random returns a nest for three lists v0, v1 and v2 of 8 elements, whose loops stay from 0 to 3.
-func random(d *sample.Dice) api.Nest {
-	n := api.Nest{Write: api.Access{Value: 1}}
-	n.Loops = append(n.Loops, api.Loop{Var: "x", Lo: sample.Linear(sample.Pick(d, "0", "1", "n-2")), Hi: sample.Linears(sample.Pick(d, "4", "n", "n 3")), Step: 1 + d.N(2)})
-	n.Loops = append(n.Loops, api.Loop{Var: "y", Lo: sample.Linear(sample.Pick(d, "0", "x", "1-x")), Hi: sample.Linears(sample.Pick(d, "4", "x+1", "n x+2", "4-x")), Step: 1 + d.N(3)})
-	index := func() string { return sample.Pick(d, "0", "x", "y", "x+y", "3", "x+1", "y+2", "n") }
-	n.Body = api.Pull{Op: sample.Pick(d, "add", "sub", "max"), Kids: []api.Pull{read(d.N(3), index()), sample.Pick(d, num(3), read(d.N(3), index()), lin("x-y"))}}
-	n.Write.At = sample.Linears(index())
-	if d.N(3) == 0 {
-		n.Write.At, n.Write.Dynamic, n.Index, n.Check = nil, true, read(d.N(3), index()), d.N(3)
-	}
-	return n
 }
 
 func TestRandom(t *testing.T) { // P49.2, P49.3, P49.5
 	d := sample.NewDice(16)
 	ran := 0
 	for range 3000 {
-		n := random(d)
+		n := sample.Nest(d, 2)
 		env := []api.Value{{Var: "n", N: d.N(6) - 1}}
-		arrays := clone.Each(sample.Arrays("#[8: 1 0 3 2 9 5 4 7]", "#[8: 0 0 0 1 0 2 0 3]", "#[8: 1 1 2 2 3 3 4 4]"), clone.Array)
-		for i := range arrays[0].Data {
-			arrays[0].Data[i] = d.N(12) - 2
-		}
+		arrays := sample.Squares(d)
 		points, e := nest.Points(n, env)
 		if e != api.OK {
 			t.Fatalf("%d", e)
@@ -444,7 +419,7 @@ func elements(t *testing.T, x api.Kernel, n api.Nest, points [][]int, dims []api
 		}
 		want, _, _, _ := pull.Eval(x.Body, env, arrays)
 		if x.Kind == api.KernelScan && p[len(p)-1] > 0 {
-			code := api.Pull{Op: "code", Fun: x.Fun, Kids: []api.Pull{num(before), num(want)}}
+			code := api.Pull{Op: "code", Fun: x.Fun, Kids: []api.Pull{sample.Number(before), sample.Number(want)}}
 			want, _, _, _ = pull.Eval(code, nil, nil)
 		}
 		before = out[x.Value].Data[i]
