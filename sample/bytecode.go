@@ -97,3 +97,121 @@ func MachinePrimOf(d *Dice, name string) api.Op {
 	}
 	return MachinePrim(name, regs...)
 }
+
+// Machine carries out a program step by step, and looks at the registers ahead of each instruction, if Look is set.
+type Machine struct {
+	Program  api.Bytecode
+	Regs     []int
+	Arena    []int
+	Stored   []int // the addresses
+	Counts   api.Counts
+	Violated map[int]bool
+	Steps    int
+	Most     int // steps
+	Look     func(at int, regs []int)
+	match    []int
+}
+
+// NewMachine returns a machine whose words are given.
+func NewMachine(b api.Bytecode, arena []int) *Machine {
+	match, ok := bytecode.Match(b.Ops)
+	if !ok || len(arena) != b.Arena {
+		panic("no program")
+	}
+	return &Machine{Program: b, Regs: make([]int, b.Regs), Arena: slices.Clone(arena), Violated: map[int]bool{}, Most: 3000, match: match}
+}
+
+// Run carries out all instructions; false if one fails, or there are too many steps.
+func (m *Machine) Run() bool { return m.run(0, len(m.Program.Ops)) }
+
+func (m *Machine) run(from, to int) bool {
+	for i := from; i < to; i++ {
+		if m.Steps++; m.Steps > m.Most {
+			return false
+		}
+		x := m.Program.Ops[i]
+		if m.Look != nil {
+			m.Look(i, m.Regs)
+		}
+		switch x.Code {
+		case bytecode.For:
+			lo, hi := m.Regs[x.B], m.Regs[x.C]
+			for n := lo; n < hi; n += x.D {
+				m.Regs[x.A] = n
+				if !m.run(i+1, m.match[i]) {
+					return false
+				}
+			}
+			i = m.match[i]
+		case bytecode.If:
+			other, end := m.match[i], m.match[i]
+			if m.Program.Ops[other].Code == bytecode.Else {
+				end = m.match[other]
+			}
+			begin, stop := i+1, other
+			if m.Regs[x.A] < 0 {
+				begin, stop = min(other+1, end), end
+			}
+			if !m.run(begin, stop) {
+				return false
+			}
+			i = end
+		default:
+			if !m.step(x) {
+				return false
+			}
+		}
+	}
+	return true
+}
+
+// step carries out an instruction without a block.
+func (m *Machine) step(x api.Op) bool {
+	r := m.Regs
+	isIn := func(at int) bool { return at >= 0 && at < len(m.Arena) }
+	switch x.Code {
+	case bytecode.Const:
+		r[x.A] = x.B
+	case bytecode.Add:
+		r[x.A] = r[x.B] + x.D*r[x.C]
+		return max(r[x.A], -r[x.A]) <= bytecode.MaxConst
+	case bytecode.Min:
+		r[x.A] = min(r[x.B], r[x.C])
+	case bytecode.Max:
+		r[x.A] = max(r[x.B], r[x.C])
+	case bytecode.Prim:
+		var args []int
+		for _, k := range bytecode.Reads(x) {
+			args = append(args, r[k])
+		}
+		n, ok := element.Apply(x.Prim, args)
+		m.Counts.Ops++
+		r[x.A] = n
+		return ok
+	case bytecode.Load:
+		if !isIn(r[x.B]) {
+			return false
+		}
+		m.Counts.Reads++
+		r[x.A] = m.Arena[r[x.B]]
+	case bytecode.Store:
+		if !isIn(r[x.A]) || element.Wrap(r[x.B]) != r[x.B] {
+			return false
+		}
+		m.Counts.Writes++
+		m.Arena[r[x.A]] = r[x.B]
+		m.Stored = append(m.Stored, r[x.A])
+	case bytecode.Miss:
+		m.Counts.Reads++
+		r[x.A] = 0
+	case bytecode.Skip:
+		m.Counts.Writes++
+	case bytecode.Check:
+		if r[x.B] == 0 {
+			m.Violated[x.A] = true
+		}
+	case bytecode.Wrap:
+		r[x.A] = element.Wrap(r[x.B])
+	}
+	return true
+}

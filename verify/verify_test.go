@@ -141,87 +141,6 @@ func TestVerify(t *testing.T) { // P53.1, P53.5
 	}
 }
 
-// tracer carries out a program, and looks at each instruction ahead of it.
-type tracer struct {
-	b     api.Bytecode
-	match []int
-	regs  []int
-	arena []int
-	steps int
-	look  func(at int, regs []int)
-}
-
-// run carries out some instructions, as long as they do not fail.
-func (m *tracer) run(from, to int) bool {
-	for i := from; i < to; i++ {
-		if m.steps++; m.steps > 3000 {
-			return false
-		}
-		x := m.b.Ops[i]
-		m.look(i, m.regs)
-		r := m.regs
-		isIn := func(at int) bool { return at >= 0 && at < len(m.arena) }
-		switch x.Code {
-		case bytecode.Const:
-			r[x.A] = x.B
-		case bytecode.Add:
-			if r[x.A] = r[x.B] + x.D*r[x.C]; max(r[x.A], -r[x.A]) > bytecode.MaxConst {
-				return false
-			}
-		case bytecode.Min:
-			r[x.A] = min(r[x.B], r[x.C])
-		case bytecode.Max:
-			r[x.A] = max(r[x.B], r[x.C])
-		case bytecode.Prim:
-			var args []int
-			for _, k := range bytecode.Reads(x) {
-				args = append(args, r[k])
-			}
-			n, ok := element.Apply(x.Prim, args)
-			if r[x.A] = n; !ok {
-				return false
-			}
-		case bytecode.Load:
-			if !isIn(r[x.B]) {
-				return false
-			}
-			r[x.A] = m.arena[r[x.B]]
-		case bytecode.Store:
-			if !isIn(r[x.A]) || element.Wrap(r[x.B]) != r[x.B] {
-				return false
-			}
-			m.arena[r[x.A]] = r[x.B]
-		case bytecode.Miss:
-			r[x.A] = 0
-		case bytecode.Wrap:
-			r[x.A] = element.Wrap(r[x.B])
-		case bytecode.For:
-			lo, hi := r[x.B], r[x.C]
-			for n := lo; n < hi; n += x.D {
-				r[x.A] = n
-				if !m.run(i+1, m.match[i]) {
-					return false
-				}
-			}
-			i = m.match[i]
-		case bytecode.If:
-			other, end := m.match[i], m.match[i]
-			if m.b.Ops[other].Code == bytecode.Else {
-				end = m.match[other]
-			}
-			from, to := i+1, other
-			if r[x.A] < 0 {
-				from, to = min(other+1, end), end
-			}
-			if !m.run(from, to) {
-				return false
-			}
-			i = end
-		}
-	}
-	return true
-}
-
 func TestRandom(t *testing.T) { // P53.3, P53.4, P53.5
 	d := sample.NewDice(24)
 	verified, looked := 0, 0
@@ -240,13 +159,13 @@ func TestRandom(t *testing.T) { // P53.3, P53.4, P53.5
 		if e == api.OK && at != len(b.Ops) {
 			t.Fatalf("%d", at)
 		}
-		match, _ := bytecode.Match(b.Ops)
 		for range 3 {
-			m := &tracer{b: b, match: match, regs: make([]int, b.Regs)}
+			var arena []int
 			for range b.Arena {
-				m.arena = append(m.arena, sample.Pick(d, 0, 1, -1, d.N(14)-1, element.Greatest, element.Least))
+				arena = append(arena, sample.Pick(d, 0, 1, -1, d.N(14)-1, element.Greatest, element.Least))
 			}
-			m.look = func(at int, regs []int) {
+			m := sample.NewMachine(b, arena)
+			m.Look = func(at int, regs []int) {
 				looked++
 				if len(before[at]) != len(regs) {
 					text, _ := bytecode.Print(b.Ops)
@@ -259,7 +178,7 @@ func TestRandom(t *testing.T) { // P53.3, P53.4, P53.5
 					}
 				}
 			}
-			if !m.run(0, len(b.Ops)) && e == api.OK && m.steps <= 3000 {
+			if !m.Run() && e == api.OK && m.Steps <= m.Most {
 				text, _ := bytecode.Print(b.Ops)
 				t.Fatalf("%s fails", text)
 			}
