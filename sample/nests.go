@@ -18,6 +18,24 @@ func Number(n int) api.Pull { return api.Pull{Op: "const", Num: n} }
 // Op returns a pull that applies a primitive.
 func Op(name string, kids ...api.Pull) api.Pull { return api.Pull{Op: name, Kids: kids} }
 
+// Value returns a pull that is the value of an expression.
+func Value(s string) api.Pull { return api.Pull{Op: "linear", At: Linears(s)} }
+
+// If returns a pull that chooses one of two by an expression.
+func If(at string, a, b api.Pull) api.Pull {
+	return api.Pull{Op: "if", At: Linears(at), Kids: []api.Pull{a, b}}
+}
+
+// Reduce returns a reduce with a primitive.
+func Reduce(name, at, prim string, first, each api.Pull) api.Pull {
+	return api.Pull{Op: "reduce", Name: name, At: Linears(at), Fun: Prim(prim), Kids: []api.Pull{first, each}}
+}
+
+// Dynamic returns a dynamic read.
+func Dynamic(v int, at string, check int, kid api.Pull) api.Pull {
+	return api.Pull{Op: "read", Value: v, At: Linears(at), Dynamic: true, Check: check, Kids: []api.Pull{kid}}
+}
+
 // Nest returns a random nest with the loops x, y and, if there are three, z, for the variable n and three arrays of the dimensions 8 and 8. Its points are from 0 to 3; it may write the array that it reads.
 func Nest(d *Dice, loops int) api.Nest {
 	x := api.Loop{Var: "x", Lo: Linear(Pick(d, "0", "0", "1", "n-2")), Hi: Linears(Pick(d, "4", "n", "n 3")), Step: max(1, d.N(5)-2)}
