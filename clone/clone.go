@@ -153,3 +153,9 @@ func Nest(n api.Nest) api.Nest {
 	n.Index, n.Body = Pull(n.Index), Pull(n.Body)
 	return n
 }
+
+// Bytecode copies a program of the machine.
+func Bytecode(b api.Bytecode) api.Bytecode {
+	b.Ops, b.Inputs, b.Results, b.Types = slices.Clone(b.Ops), slices.Clone(b.Inputs), slices.Clone(b.Results), Each(b.Types, Array)
+	return b
+}

@@ -8,6 +8,7 @@ import (
 	"framewise/array"
 	"framewise/compile"
 	"framewise/cost"
+	"framewise/image"
 	"framewise/machine"
 	"framewise/nest"
 	"framewise/tile"
@@ -86,5 +87,32 @@ func TestNests(t *testing.T) { // W10
 	t.Logf("%d programs, %d nests that are tiled", compared, tiled)
 	if compared < 300 || tiled < 300 {
 		t.Errorf("%d programs, %d nests that are tiled", compared, tiled)
+	}
+}
+
+func TestImages(t *testing.T) { // W12
+	compared := 0
+	eachFlat(t, 11, 300, func(c flattened) {
+		i, stage, e := image.Make(c.list, c.def.Name, c.special.ranks, c.special.elems, c.dims)
+		if e == api.ErrLimit {
+			return
+		}
+		b, f := image.Encode(i)
+		j, g := image.Decode(b)
+		if e != api.OK || f != api.OK || g != api.OK || !image.Equal(i, j) {
+			t.Fatalf("%s: %s of %v: %d %d, %d %d", c.text, c.def.Name, c.inputs, stage, e, f, g)
+		}
+		results, violated, e := image.Run(j, c.inputs)
+		if e == api.ErrLimit {
+			return
+		}
+		compared++
+		if e != api.OK || len(results) != 1 || !array.Equal(results[0], c.out) || !slices.Equal(violated, c.violated) {
+			t.Fatalf("%s: %s of %v: %v %v %d, not %v %v", c.text, c.def.Name, c.inputs, results, violated, e, c.out, c.violated)
+		}
+	})
+	t.Logf("%d images", compared)
+	if compared < 300 {
+		t.Errorf("%d images", compared)
 	}
 }
