@@ -11,7 +11,6 @@ import (
 	"framewise/clone"
 	"framewise/compile"
 	"framewise/fuse"
-	"framewise/lifetime"
 	"framewise/nest"
 	"framewise/plan"
 	"framewise/sample"
@@ -274,20 +273,10 @@ func TestRandom(t *testing.T) { // P54.1, P54.2, P54.3, P54.4, P54.5
 		if isRun {
 			ran++
 		}
-		// Another plan, in which each value has a place of its own.
-		sizes, _ := lifetime.Sizes(k, dims)
-		spans, _ := lifetime.Spans(k)
-		q := api.Plan{InPlace: make([]int, len(k.List))}
-		for v, n := range sizes {
-			x := api.Place{Offset: -1}
-			if spans[v].Last > -2 {
-				x = api.Place{Offset: q.Peak, Size: n}
-				q.Peak += n + d.N(2)
+		for _, q := range []api.Plan{sample.Apart(d, k, dims), sample.Mixed(d, k, p, dims)} {
+			if check(t, k, q, dims, inputs) != isRun {
+				t.Fatal("another plan")
 			}
-			q.Places = append(q.Places, x)
-		}
-		if check(t, k, q, dims, inputs) != isRun {
-			t.Fatal("another plan")
 		}
 	}
 	if ran < 800 || made < 2000 {

@@ -11,7 +11,6 @@ import (
 	"framewise/compile"
 	"framewise/cost"
 	"framewise/fuse"
-	"framewise/lifetime"
 	"framewise/linear"
 	"framewise/machine"
 	"framewise/nest"
@@ -287,22 +286,6 @@ func TestNests(t *testing.T) { // P56.3
 	}
 }
 
-// apart returns a plan in which each value has a place of its own.
-func apart(d *sample.Dice, k api.Kernels, dims []api.Value) api.Plan {
-	sizes, _ := lifetime.Sizes(k, dims)
-	spans, _ := lifetime.Spans(k)
-	p := api.Plan{InPlace: make([]int, len(k.List))}
-	for v, n := range sizes {
-		x := api.Place{Offset: -1}
-		if spans[v].Last > -2 {
-			x = api.Place{Offset: p.Peak, Size: n}
-			p.Peak += n + d.N(2)
-		}
-		p.Places = append(p.Places, x)
-	}
-	return p
-}
-
 func TestPrograms(t *testing.T) { // P56.4, P56.6
 	d := sample.NewDice(31)
 	ran := 0
@@ -316,7 +299,7 @@ func TestPrograms(t *testing.T) { // P56.4, P56.6
 		if e != api.OK {
 			continue
 		}
-		q := apart(d, k, dims)
+		q := sample.Apart(d, k, dims)
 		near, e := cost.Of(k, p, dims)
 		far, f := cost.Of(k, q, dims)
 		if e != f || near.Reads > far.Reads || near.Writes > far.Writes || near.Ops != far.Ops || far.Reads-near.Reads != far.Writes-near.Writes {
@@ -327,7 +310,7 @@ func TestPrograms(t *testing.T) { // P56.4, P56.6
 		if e != api.OK || f != api.OK {
 			continue
 		}
-		for _, p := range []api.Plan{p, q} {
+		for _, p := range []api.Plan{p, q, sample.Mixed(d, k, p, dims)} {
 			want, _ := cost.Of(k, p, dims)
 			b, e := compile.Make(k, p, dims)
 			if e != api.OK {
